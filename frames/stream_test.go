@@ -1,0 +1,83 @@
+package frames
+
+import (
+	"errors"
+	"strings"
+	"testing"
+
+	"skein/api"
+	"skein/faults"
+)
+
+// wants holds an error against a kind and a place.
+func wants(t *testing.T, err, kind error, at api.Place) {
+	t.Helper()
+	var fault *faults.Fault
+	if !errors.Is(err, kind) || !errors.As(err, &fault) || fault.Place != at {
+		t.Errorf("%v, want %v at %+v", err, kind, at)
+	}
+}
+
+func TestFaultsAreWrapped(t *testing.T) {
+	begun := "SKIP\x01\x00\x00xSKN1\x08\x08\x00a"
+	for _, c := range []struct {
+		what, text string
+		kind       error
+		at         api.Place
+	}{
+		{"a sum", begun + "\x01\x00\x61\xb3\xae\x00", faults.Sum, api.Place{Frame: 1, Block: 2}},
+		{"a block", begun + "\x06\x00", faults.Format, api.Place{Frame: 1, Block: 1}},
+		{"letters", "SKIP\x00\x00\x00SKIQ", faults.Format, api.Place{Frame: 1}},
+		{"a window", "SKN1\x02", faults.Limit, api.Place{}},
+		{"a dictionary", "SKN1\x20\x02", faults.Dict, api.Place{}},
+	} {
+		_, err := New(128, []int{1}).Feed(c.text)
+		if err == nil {
+			t.Errorf("%s: no error", c.what)
+			continue
+		}
+		wants(t, err, c.kind, c.at)
+	}
+}
+
+func TestCloseTellsTheEnd(t *testing.T) {
+	s := New(64, nil)
+	wants(t, s.Close(), faults.End, api.Place{})
+	s.Feed("SKN1\x00\x00\x00\x01")
+	wants(t, s.Close(), faults.Short, api.Place{Block: 1})
+	s.Feed("\x00")
+	wants(t, s.Close(), faults.End, api.Place{Frame: 1})
+	s.Feed("S")
+	wants(t, s.Close(), faults.Short, api.Place{Frame: 1})
+}
+
+func TestContentComesWithTheErrorBehindIt(t *testing.T) {
+	content, err := New(64, nil).Feed("SKN1\x00\x10\x00ab\x0a\x00x\x06\x00")
+	if content != "abx" {
+		t.Errorf("P6: the content ahead of the fault: %q", content)
+	}
+	wants(t, err, faults.Format, api.Place{Block: 2})
+}
+
+// What came is kept until its unit is whole, and skipped bytes not even so long.
+func TestNoMoreIsKeptThanAUnit(t *testing.T) {
+	s := New(64, nil)
+	s.Feed("SKIP\xff\xff\xff")
+	piece := strings.Repeat("x", 1<<16)
+	for range 255 {
+		s.Feed(piece)
+		if len(s.begun) != 0 || cap(s.begun) > 64 {
+			t.Fatalf("%d skipped bytes are kept, in a room of %d", len(s.begun), cap(s.begun))
+		}
+	}
+	s.Feed(piece[1:])
+	wants(t, s.Close(), faults.End, api.Place{Frame: 1})
+	s.Feed("SKN1\x00")
+	raw := "\x00\x20" + strings.Repeat("y", api.MaxBlock)
+	if content, err := s.Feed(strings.Repeat(raw, 100) + raw[:500]); len(content) != 100*api.MaxBlock || err != nil {
+		t.Fatalf("P8: %d bytes of content, %v", len(content), err)
+	}
+	if len(s.begun) != 498 || cap(s.begun) > 2*api.MaxBlock {
+		t.Errorf("%d bytes are kept of a block, in a room of %d", len(s.begun), cap(s.begun))
+	}
+}

@@ -1,0 +1,264 @@
+package skein_test
+
+import (
+	"math"
+	"math/rand"
+	"strings"
+	"testing"
+
+	"skein/api"
+	"skein/skein"
+)
+
+// drawBlocks draws blocks up to the last one, and gives their content too.
+func drawBlocks(r *rand.Rand) (blocks, content string) {
+	n := 1 + r.Intn(4)
+	for i := range n {
+		length := r.Intn(20)
+		if r.Intn(10) == 0 {
+			length = r.Intn(api.MaxBlock + 1)
+		}
+		letter := little(r.Intn(256), 1)
+		if r.Intn(2) == 0 {
+			blocks += runBlock(i == n-1, length, letter)
+			content += strings.Repeat(letter, length)
+			continue
+		}
+		piece := strings.Repeat(letter+"abc", length)[:length]
+		blocks += rawBlock(i == n-1, piece)
+		content += piece
+	}
+	return blocks, content
+}
+
+// drawFrame draws a frame that is right for the settings of drawConfig.
+func drawFrame(r *rand.Rand) string {
+	if r.Intn(5) == 0 {
+		n := r.Intn(30)
+		return "SKIP" + little(n, 3) + strings.Repeat("x", n)
+	}
+	blocks, content := drawBlocks(r)
+	flags, middle, end := r.Intn(3), "", ""
+	if r.Intn(3) == 0 {
+		flags += 32
+		middle += little(r.Intn(2), 1)
+	}
+	if r.Intn(2) == 0 {
+		flags += 16
+		middle += little(len(content), 3)
+	}
+	if r.Intn(2) == 0 {
+		flags += 8
+		end = sumOf(content)
+	}
+	return "SKN1" + little(flags, 1) + middle + blocks + end
+}
+
+func drawConfig() api.Config {
+	return api.Config{Limit: 256, Dicts: dicts(0, 1)}
+}
+
+func drawStream(r *rand.Rand) string {
+	text := ""
+	for range r.Intn(4) {
+		text += drawFrame(r)
+	}
+	return text
+}
+
+// spoil makes some streams wrong: a byte is another one, is left out, or the end is.
+func spoil(r *rand.Rand, text string) string {
+	if text == "" {
+		return text
+	}
+	at := r.Intn(len(text))
+	if r.Intn(2) == 0 {
+		at = r.Intn(min(len(text), 16))
+	}
+	switch r.Intn(6) {
+	case 0:
+		return text[:at] + little(r.Intn(256), 1) + text[at+1:]
+	case 1:
+		return text[:at] + little(int(text[at])^1<<r.Intn(8), 1) + text[at+1:]
+	case 2:
+		return text[:at] + text[at+1:]
+	case 3:
+		return text[:at]
+	}
+	return text
+}
+
+// call makes one call, drawn, of a reader and of the model, and gives back what is left to feed.
+func call(t *testing.T, r *rand.Rand, real *skein.Reader, model *modelReader, rest string) string {
+	t.Helper()
+	switch r.Intn(8) {
+	case 0, 1, 2:
+		n := min(len(rest), r.Intn(40))
+		if e, want := real.Feed(rest[:n]), model.feed(rest[:n]); e != want {
+			t.Fatalf("P6: Feed(%q) behind %q = %d, want %d", rest[:n], model.fed, e, want)
+		}
+		return rest[n:]
+	case 3, 4, 5:
+		n := r.Intn(50) - 3
+		s, e := real.Read(n)
+		if want, f := model.read(n); s != want || e != f {
+			t.Fatalf("P6: Read(%d) behind %q = %q, %d, want %q, %d", n, model.fed, s, e, want, f)
+		}
+	case 6:
+		p, e := real.Place()
+		if want, f := model.place(); p != want || e != f {
+			t.Fatalf("P6: Place behind %q = %+v, %d, want %+v, %d", model.fed, p, e, want, f)
+		}
+	default:
+		if rest != "" && r.Intn(20) > 0 {
+			break
+		}
+		if e, want := real.Close(), model.close(); e != want {
+			t.Fatalf("P6: Close behind %q = %d, want %d", model.fed, e, want)
+		}
+	}
+	return rest
+}
+
+func TestCallsInAnyOrder(t *testing.T) {
+	r := rand.New(rand.NewSource(7))
+	seen := map[api.Errno]int{}
+	for range 4000 {
+		c := drawConfig()
+		text := spoil(r, drawStream(r))
+		end := modelOf(c, text, true)
+		if end.e == unread {
+			continue
+		}
+		seen[end.e]++
+		real, model := fresh(t, c), &modelReader{config: c}
+		rest := text
+		for range 60 {
+			rest = call(t, r, real, model, rest)
+		}
+	}
+	for _, e := range []api.Errno{api.End, api.ErrFormat, api.ErrLimit, api.ErrDict, api.ErrShort, api.ErrSum} {
+		if seen[e] < 10 {
+			t.Errorf("only %d of the drawn streams end with %d", seen[e], e)
+		}
+	}
+}
+
+// inPieces reads all of a text in pieces of drawn sizes.
+func inPieces(t *testing.T, r *rand.Rand, c api.Config, text string) told {
+	t.Helper()
+	reader := fresh(t, c)
+	got := ""
+	for rest := text; rest != ""; {
+		n := 1 + r.Intn(len(rest))
+		if r.Intn(2) == 0 {
+			n = 1 + r.Intn(min(5, len(rest)))
+		}
+		feed(t, reader, rest[:n])
+		rest = rest[n:]
+		s, _ := reader.Read(r.Intn(2000))
+		got += s
+	}
+	closeIt(t, reader)
+	for {
+		s, e := reader.Read(1 + r.Intn(100))
+		got += s
+		if e != api.OK {
+			p, _ := reader.Place()
+			return told{got, e, p}
+		}
+	}
+}
+
+func TestPiecesMakeNoDifference(t *testing.T) {
+	r := rand.New(rand.NewSource(11))
+	for range 2000 {
+		c := drawConfig()
+		text := spoil(r, drawStream(r))
+		want := modelOf(c, text, true)
+		if want.e == unread {
+			continue
+		}
+		for range 3 {
+			if got := inPieces(t, r, c, text); got != want {
+				t.Fatalf("P11: %q in pieces: %v, want %v", text, got, want)
+			}
+		}
+		if want.e == api.End {
+			want.e = api.OK
+		}
+		if got, e := skein.Whole(c, text); got != want.content || e != want.e {
+			t.Fatalf("P6: Whole(%q) = %q, %d, want %q, %d", text, got, e, want.content, want.e)
+		}
+	}
+}
+
+func TestCutAnywhere(t *testing.T) {
+	r := rand.New(rand.NewSource(12))
+	for range 60 {
+		c := drawConfig()
+		var text string
+		ends := map[int]int{0: 1}
+		for i := range 3 {
+			text += drawFrame(r)
+			ends[len(text)] = i + 2
+		}
+		all, _ := skein.Whole(c, text)
+		for n := range len(text) + 1 {
+			want := api.ErrShort
+			if ends[n] > 0 {
+				want = api.OK
+			}
+			got, e := skein.Whole(c, text[:n])
+			if e != want || !strings.HasPrefix(all, got) {
+				t.Fatalf("P11: the first %d bytes of %q: %q, %d, want %d", n, text, got, e, want)
+			}
+			if now := modelOf(c, text[:n], true); now.content != got {
+				t.Fatalf("P11: the first %d bytes of %q: %q, want %q", n, text, got, now.content)
+			}
+		}
+	}
+}
+
+func TestNothingIsTakenBack(t *testing.T) {
+	r := rand.New(rand.NewSource(13))
+	for range 300 {
+		c := drawConfig()
+		text := drawStream(r)
+		n := r.Intn(len(text) + 1)
+		reader := fresh(t, c)
+		feed(t, reader, text[:n])
+		soFar, _ := reader.Read(math.MaxInt)
+		for range 5 {
+			other := make([]byte, r.Intn(40))
+			r.Read(other)
+			if got, _ := skein.Whole(c, text[:n]+string(other)); !strings.HasPrefix(got, soFar) {
+				t.Fatalf("P11: %q gave %q; behind %q it is %q", text[:n], soFar, other, got)
+			}
+		}
+	}
+}
+
+// FuzzReader holds any bytes, in two pieces, against the model.
+func FuzzReader(f *testing.F) {
+	f.Add("SKN1\x18\x03\x00\x00\x19\x00abc\xff\x53\xd1\x32SKIP\x01\x00\x00x", 7)
+	f.Add("SKN1\x20\x01\x12\x00xSKN1", 3)
+	f.Fuzz(func(t *testing.T, text string, cut int) {
+		c := drawConfig()
+		want := modelOf(c, text, true)
+		if want.e == unread {
+			return
+		}
+		reader := fresh(t, c)
+		n := max(0, min(cut, len(text)))
+		feed(t, reader, text[:n])
+		feed(t, reader, text[n:])
+		closeIt(t, reader)
+		got, _ := reader.Read(math.MaxInt)
+		_, e := reader.Read(0)
+		p, _ := reader.Place()
+		if is := (told{got, e, p}); is != want {
+			t.Errorf("%q in two pieces: %v, want %v", text, is, want)
+		}
+	})
+}
