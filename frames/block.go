@@ -1,10 +1,9 @@
 package frames
 
 import (
-	"strings"
-
 	"skein/api"
 	"skein/faults"
+	"skein/scan"
 )
 
 // The kinds of blocks.
@@ -23,7 +22,7 @@ type block struct {
 }
 
 func parseBlock(bytes string) (block, error) {
-	n := number(bytes)
+	n := scan.Number(bytes)
 	b := block{last: n&1 != 0, kind: n >> 1 & 3, number: n >> 3}
 	if b.kind == noKind || b.number > api.MaxBlock {
 		return block{}, faults.Format
@@ -37,15 +36,4 @@ func (b block) length() int {
 		return 1
 	}
 	return b.number
-}
-
-func (b block) content(bytes string) (string, error) {
-	switch b.kind {
-	case raw:
-		return bytes, nil
-	case run:
-		return strings.Repeat(bytes, b.number), nil
-	}
-	// Packed blocks (P9, P10) are not read yet.
-	return "", faults.Format
 }

@@ -5,7 +5,9 @@ import (
 
 	"skein/api"
 	"skein/faults"
+	"skein/literals"
 	"skein/rolling"
+	"skein/scan"
 )
 
 // The bits of the first byte of a header.
@@ -17,13 +19,14 @@ const (
 	noBits     = 1<<6 | 1<<7
 )
 
-// frame is what the header of a frame told, and how far its content has come.
+// frame is what the header of a frame told, how far its content has come, and what later blocks lean on.
 type frame struct {
-	summed bool
-	sized  bool
-	size   int
-	length int
-	sum    rolling.Sum
+	summed   bool
+	sized    bool
+	size     int
+	length   int
+	sum      rolling.Sum
+	literals literals.Reader
 }
 
 func headerLength(first byte) int {
@@ -54,7 +57,7 @@ func parseHeader(bytes string, limit int, dicts []int) (frame, error) {
 	return frame{
 		summed: first&sumBit != 0,
 		sized:  first&sizeBit != 0,
-		size:   number(rest),
+		size:   scan.Number(rest),
 		sum:    rolling.Start(),
 	}, nil
 }

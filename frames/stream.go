@@ -6,6 +6,7 @@ import (
 
 	"skein/api"
 	"skein/faults"
+	"skein/scan"
 )
 
 // unit tells what the next bytes of a stream are.
@@ -21,7 +22,8 @@ const (
 	sum
 )
 
-// Stream reads a stream that comes in pieces. Of what came it keeps the unit that is not whole yet, and no more.
+// Stream reads a stream that comes in pieces. Of what came it keeps the unit that is not whole yet, and what the
+// blocks of the frame that is being read leave to later ones.
 type Stream struct {
 	limit int
 	dicts []int
@@ -117,7 +119,7 @@ func (s *Stream) read(bytes string) (string, error) {
 	case letters:
 		return "", s.readLetters(bytes)
 	case skipLength:
-		s.left = number(bytes)
+		s.left = scan.Number(bytes)
 		s.next = skipped
 	case skipped:
 		s.endFrame()
@@ -166,7 +168,7 @@ func (s *Stream) readBlockHeader(bytes string) error {
 }
 
 func (s *Stream) readBody(bytes string) (string, error) {
-	content, err := s.block.content(bytes)
+	content, err := s.frame.content(s.block, bytes)
 	if err != nil {
 		return "", err
 	}
@@ -186,23 +188,16 @@ func (s *Stream) readBody(bytes string) (string, error) {
 }
 
 func (s *Stream) readSum(bytes string) error {
-	if uint32(number(bytes)) != s.frame.sum.Value() {
+	if uint32(scan.Number(bytes)) != s.frame.sum.Value() {
 		return faults.Sum
 	}
 	s.endFrame()
 	return nil
 }
 
+// endFrame lets go of all that the frame kept for its blocks.
 func (s *Stream) endFrame() {
+	s.frame = frame{}
 	s.place = api.Place{Frame: s.place.Frame + 1}
 	s.next = letters
-}
-
-// number reads a number of as many bytes as there are.
-func number(bytes string) int {
-	n := 0
-	for i := range len(bytes) {
-		n |= int(bytes[i]) << (8 * i)
-	}
-	return n
 }

@@ -7,6 +7,7 @@ import (
 
 	"skein/api"
 	"skein/faults"
+	"skein/literals"
 )
 
 // wants holds an error against a kind and a place.
@@ -79,5 +80,20 @@ func TestNoMoreIsKeptThanAUnit(t *testing.T) {
 	}
 	if len(s.begun) != 498 || cap(s.begun) > 2*api.MaxBlock {
 		t.Errorf("%d bytes are kept of a block, in a room of %d", len(s.begun), cap(s.begun))
+	}
+}
+
+// The codes of a frame are of no use behind it.
+func TestNothingOfAFrameIsKeptBehindIt(t *testing.T) {
+	s := New(64, nil)
+	if content, err := s.Feed("SKN1\x00\x44\x00\x22\x00\x01\x01\x01\x00\x53\x00"); len(content) != 8 || err != nil {
+		t.Fatalf("P9: a block with codes: %q, %v", content, err)
+	}
+	if s.frame.literals == (literals.Reader{}) {
+		t.Errorf("P9: the codes of a frame that goes on are not kept")
+	}
+	s.Feed("\x01\x00")
+	if s.frame.literals != (literals.Reader{}) {
+		t.Errorf("the codes of a frame that has ended are kept")
 	}
 }

@@ -39,6 +39,10 @@ func runBlock(last bool, n int, s string) string {
 	return blockHeader(last, 1, n) + s
 }
 
+func packedBlock(last bool, s string) string {
+	return blockHeader(last, 2, len(s)) + s
+}
+
 func sumOf(s string) string {
 	return little(int(sums.Sum(s)), 4)
 }

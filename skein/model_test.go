@@ -16,9 +16,10 @@ type model struct {
 	pos     int
 	content string
 	at      api.Place
+	codes   map[string]int // of the frame: literals by their bits
 }
 
-// unread is what the model leaves with at a block of kind 2, of which it knows nothing.
+// unread is what the model leaves with at a block with sequences, of which it knows nothing.
 const unread api.Errno = -1
 
 // told is what a model has come to: its content, the error (Wait, if it has not stopped) and the place.
@@ -89,6 +90,7 @@ func (m *model) readFrame() {
 	m.must(64<<(flags%8) <= m.config.Limit, api.ErrLimit)
 	m.must(id < 0 || m.knows(id), api.ErrDict)
 	start := len(m.content)
+	m.codes = nil
 	for last := false; !last; m.at.Block++ {
 		last = m.readBlock(start, size)
 	}
@@ -110,12 +112,14 @@ func (m *model) readBlock(start, size int) bool {
 	h := value(m.take(2))
 	last, kind, n := h%2 == 1, h/2%4, h/8
 	m.must(kind != 3 && n <= 1024, api.ErrFormat)
-	m.must(kind != 2, unread)
 	piece := ""
-	if kind == 0 {
+	switch kind {
+	case 0:
 		piece = m.take(n)
-	} else {
+	case 1:
 		piece = strings.Repeat(m.take(1), n)
+	default:
+		piece = m.unpack(m.take(n))
 	}
 	length := len(m.content) - start + len(piece)
 	m.must(size < 0 || length <= size && (!last || length == size), api.ErrFormat)

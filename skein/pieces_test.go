@@ -12,8 +12,15 @@ import (
 
 // drawBlocks draws blocks up to the last one, and gives their content too.
 func drawBlocks(r *rand.Rand) (blocks, content string) {
-	n := 1 + r.Intn(4)
+	n := 1 + r.Intn(5)
+	var weights []int
 	for i := range n {
+		if r.Intn(2) == 0 {
+			bytes, piece := drawPacked(r, &weights)
+			blocks += packedBlock(i == n-1, bytes)
+			content += piece
+			continue
+		}
 		length := r.Intn(20)
 		if r.Intn(10) == 0 {
 			length = r.Intn(api.MaxBlock + 1)
@@ -243,6 +250,8 @@ func TestNothingIsTakenBack(t *testing.T) {
 func FuzzReader(f *testing.F) {
 	f.Add("SKN1\x18\x03\x00\x00\x19\x00abc\xff\x53\xd1\x32SKIP\x01\x00\x00x", 7)
 	f.Add("SKN1\x20\x01\x12\x00xSKN1", 3)
+	f.Add("SKN1\x00"+packedBlock(false, freshLiterals([]int{2, 1}, "\x00\x01\x02")+"\x00")+packedBlock(true, lastLiterals([]int{2, 1}, "\x02\x00")+"\x00"), 9)
+	f.Add("SKN1\x00"+packedBlock(false, plainLiterals("abc")+"\x00")+packedBlock(true, repeatedLiterals(9, "x")+"\x00"), 11)
 	f.Fuzz(func(t *testing.T, text string, cut int) {
 		c := drawConfig()
 		want := modelOf(c, text, true)
