@@ -3,7 +3,6 @@ package frames
 import (
 	"strings"
 
-	"skein/faults"
 	"skein/scan"
 )
 
@@ -24,13 +23,9 @@ func (f *frame) unpack(bytes scan.Bytes) (string, error) {
 	if err != nil {
 		return "", err
 	}
-	sequences, err := bytes.Number(1)
+	list, err := f.sequences.Read(bytes)
 	if err != nil {
 		return "", err
 	}
-	// Blocks with sequences are not read yet.
-	if sequences != 0 || bytes != "" {
-		return "", faults.Format
-	}
-	return text, nil
+	return f.window.Fill(text, list)
 }

@@ -7,6 +7,7 @@ import (
 	"skein/api"
 	"skein/faults"
 	"skein/scan"
+	"skein/sequences"
 )
 
 // unit tells what the next bytes of a stream are.
@@ -22,23 +23,24 @@ const (
 	sum
 )
 
-// Stream reads a stream that comes in pieces. Of what came it keeps the unit that is not whole yet, and what the
-// blocks of the frame that is being read leave to later ones.
+// Stream reads a stream that comes in pieces. Of what came it keeps the unit that is not whole yet, what the blocks
+// of the frame that is being read leave to later ones, and the tables of states that were built.
 type Stream struct {
-	limit int
-	dicts []int
-	place api.Place
-	next  unit
-	begun []byte
-	left  int // bytes of a skipped frame that are still to come
-	frame frame
-	block block
+	limit  int
+	dicts  []api.Dict
+	tables sequences.Tables
+	place  api.Place
+	next   unit
+	begun  []byte
+	left   int // bytes of a skipped frame that are still to come
+	frame  frame
+	block  block
 }
 
-// New makes a stream of which nothing has come: limit is the largest window, dicts are the IDs of the dictionaries,
-// a list that is the stream's own from now on.
-func New(limit int, dicts []int) *Stream {
-	return &Stream{limit: limit, dicts: dicts}
+// New makes a stream of which nothing has come: limit is the largest window, dicts are the dictionaries, a list that
+// is the stream's own from now on.
+func New(limit int, dicts []api.Dict) *Stream {
+	return &Stream{limit: limit, dicts: dicts, tables: sequences.Tables{}}
 }
 
 // Feed reads on, and gives the content of the blocks that became whole. An error tells that the stream cannot be
@@ -148,7 +150,7 @@ func (s *Stream) readLetters(bytes string) error {
 }
 
 func (s *Stream) readHeader(bytes string) error {
-	f, err := parseHeader(bytes, s.limit, s.dicts)
+	f, err := s.parseHeader(bytes)
 	if err != nil {
 		return err
 	}

@@ -2,12 +2,14 @@ package frames
 
 import (
 	"errors"
+	"reflect"
 	"strings"
 	"testing"
 
 	"skein/api"
 	"skein/faults"
 	"skein/literals"
+	"skein/window"
 )
 
 // wants holds an error against a kind and a place.
@@ -32,7 +34,7 @@ func TestFaultsAreWrapped(t *testing.T) {
 		{"a window", "SKN1\x02", faults.Limit, api.Place{}},
 		{"a dictionary", "SKN1\x20\x02", faults.Dict, api.Place{}},
 	} {
-		_, err := New(128, []int{1}).Feed(c.text)
+		_, err := New(128, []api.Dict{{ID: 1, Content: "x"}}).Feed(c.text)
 		if err == nil {
 			t.Errorf("%s: no error", c.what)
 			continue
@@ -83,7 +85,7 @@ func TestNoMoreIsKeptThanAUnit(t *testing.T) {
 	}
 }
 
-// The codes of a frame are of no use behind it.
+// The codes and the content of a frame are of no use behind it.
 func TestNothingOfAFrameIsKeptBehindIt(t *testing.T) {
 	s := New(64, nil)
 	if content, err := s.Feed("SKN1\x00\x44\x00\x22\x00\x01\x01\x01\x00\x53\x00"); len(content) != 8 || err != nil {
@@ -92,8 +94,30 @@ func TestNothingOfAFrameIsKeptBehindIt(t *testing.T) {
 	if s.frame.literals == (literals.Reader{}) {
 		t.Errorf("P9: the codes of a frame that goes on are not kept")
 	}
+	if reflect.DeepEqual(s.frame.window, window.Window{}) {
+		t.Errorf("P10: the content of a frame that goes on is not kept")
+	}
 	s.Feed("\x01\x00")
-	if s.frame.literals != (literals.Reader{}) {
-		t.Errorf("the codes of a frame that has ended are kept")
+	if !reflect.DeepEqual(s.frame, frame{}) {
+		t.Errorf("something of a frame that has ended is kept: %+v", s.frame)
+	}
+}
+
+// A block of three tables: by log 5 and 16, 16; agreed; by log 6 and 32, 32.
+const threeTables = "\x6c\x00\x04\x00x\x01\x22\x15\x10\x10\x16\x20\x20\x20\x00"
+
+// Tables are built once for a whole stream, and another stream knows nothing of them.
+func TestTablesOfAStream(t *testing.T) {
+	s, other := New(64, nil), New(64, nil)
+	for range 3 {
+		if content, err := s.Feed("SKN1\x00" + threeTables + threeTables + "\x01\x00"); content != "xxxxxxxx" || err != nil {
+			t.Fatalf("P10: blocks with sequences: %q, %v", content, err)
+		}
+		if len(s.tables) != 3 {
+			t.Errorf("%d tables are kept, of 3", len(s.tables))
+		}
+	}
+	if len(other.tables) != 0 {
+		t.Errorf("another stream has %d tables", len(other.tables))
 	}
 }

@@ -37,9 +37,17 @@ func (b *Bits) Skip(n int) bool {
 	return true
 }
 
+// Take reads the next n bits as a number. It goes on behind the last bit, with noughts; Done is false then.
+func (b *Bits) Take(n int) int {
+	number := b.Peek(n)
+	b.next += n
+	return number
+}
+
 // Done tells whether nothing is left but what fills the last byte: fewer than 8 bits, all of them 0.
 func (b *Bits) Done() bool {
-	return b.left() < 8 && b.Peek(b.left()) == 0
+	left := b.left()
+	return left >= 0 && left < 8 && b.Peek(left) == 0
 }
 
 func (b *Bits) left() int {

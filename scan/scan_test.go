@@ -10,7 +10,7 @@ import (
 	"skein/scan"
 )
 
-func TestTake(t *testing.T) {
+func TestTakeOfBytes(t *testing.T) {
 	b := scan.Bytes("abcde")
 	for _, c := range []struct {
 		n          int
@@ -96,6 +96,35 @@ func TestBits(t *testing.T) {
 				break
 			}
 			left = left[n:]
+		}
+	}
+}
+
+// Take goes on with noughts where no bits are left, and Done does not forget it.
+func TestTakeOfBits(t *testing.T) {
+	r := rand.New(rand.NewSource(4))
+	for range 2000 {
+		bytes := make([]byte, r.Intn(6))
+		r.Read(bytes)
+		if r.Intn(2) == 0 {
+			clear(bytes)
+		}
+		bits, left := scan.BitsOf(string(bytes)), written(string(bytes))
+		for beyond := 0; beyond < 3; {
+			n := r.Intn(13)
+			if got, want := bits.Take(n), valueOf((left + strings.Repeat("0", n))[:n]); got != want {
+				t.Fatalf("Take(%d) ahead of %q = %d, want %d", n, left, got, want)
+			}
+			if n > len(left) {
+				beyond++
+			}
+			left = left[min(n, len(left)):]
+			if got, want := bits.Done(), beyond == 0 && len(left) < 8 && !strings.Contains(left, "1"); got != want {
+				t.Fatalf("Done ahead of %q, and %d times beyond the end = %t", left, beyond, got)
+			}
+			if beyond > 0 && bits.Skip(1) {
+				t.Fatal("Skip goes on beyond the end")
+			}
 		}
 	}
 }

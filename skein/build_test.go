@@ -3,6 +3,7 @@ package skein_test
 import (
 	"strings"
 	"testing"
+	"unsafe"
 
 	"skein/api"
 	"skein/skein"
@@ -82,4 +83,9 @@ func wantPlace(t *testing.T, r *skein.Reader, frame, block int, e api.Errno) {
 	if p, f := r.Place(); p != (api.Place{Frame: frame, Block: block}) || f != e {
 		t.Errorf("P6: Place = %+v, %d, want %d, %d, %d", p, f, frame, block, e)
 	}
+}
+
+// lent is a text in a room that can be written into later.
+func lent(room []byte) string {
+	return unsafe.String(unsafe.SliceData(room), len(room))
 }

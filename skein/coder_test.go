@@ -52,6 +52,12 @@ func coded(weights []int, s string) string {
 
 // sizedBits puts noughts and ones into bytes, behind the number of these.
 func sizedBits(bits string) string {
+	bytes := bitBytes(bits)
+	return little(len(bytes), 2) + bytes
+}
+
+// bitBytes puts noughts and ones into bytes, of each byte the highest bit first.
+func bitBytes(bits string) string {
 	text := ""
 	for ; bits != ""; bits = bits[min(8, len(bits)):] {
 		b := 0
@@ -60,7 +66,7 @@ func sizedBits(bits string) string {
 		}
 		text += little(b, 1)
 	}
-	return little(len(text), 2) + text
+	return text
 }
 
 // drawWeights draws a tree of codes, and gives the weights of all values but the last one.
@@ -97,24 +103,4 @@ func drawLiterals(r *rand.Rand, weights []int, n int) string {
 		text += little(values[r.Intn(len(values))], 1)
 	}
 	return text
-}
-
-// drawPacked draws the bytes of a packed block and gives their content too. It keeps the weights of the last codes
-// of a frame.
-func drawPacked(r *rand.Rand, weights *[]int) (bytes, content string) {
-	n := r.Intn(30)
-	letter := little(r.Intn(256), 1)
-	switch kind := r.Intn(4); {
-	case kind == 0:
-		text := strings.Repeat(letter+"xyz", n)[:n]
-		return plainLiterals(text) + "\x00", text
-	case kind == 1:
-		return repeatedLiterals(n, letter) + "\x00", strings.Repeat(letter, n)
-	case kind == 2 || *weights == nil:
-		*weights = drawWeights(r)
-		text := drawLiterals(r, *weights, n)
-		return freshLiterals(*weights, text) + "\x00", text
-	}
-	text := drawLiterals(r, *weights, n)
-	return lastLiterals(*weights, text) + "\x00", text
 }

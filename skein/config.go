@@ -2,6 +2,7 @@ package skein
 
 import (
 	"slices"
+	"strings"
 
 	"skein/api"
 )
@@ -11,7 +12,7 @@ func rightConfig(c api.Config) bool {
 		return false
 	}
 	for i, d := range c.Dicts {
-		if !rightDict(d) || slices.Contains(dictIDs(c.Dicts[:i]), d.ID) {
+		if !rightDict(d) || hasID(c.Dicts[:i], d.ID) {
 			return false
 		}
 	}
@@ -22,10 +23,15 @@ func rightDict(d api.Dict) bool {
 	return d.ID >= 0 && d.ID <= 255 && len(d.Content) >= 1 && len(d.Content) <= api.MaxDict
 }
 
-func dictIDs(dicts []api.Dict) []int {
-	var ids []int
+func hasID(dicts []api.Dict, id int) bool {
+	return slices.ContainsFunc(dicts, func(d api.Dict) bool { return d.ID == id })
+}
+
+// copied gives dictionaries that share no room with the caller's, the texts neither.
+func copied(dicts []api.Dict) []api.Dict {
+	var own []api.Dict
 	for _, d := range dicts {
-		ids = append(ids, d.ID)
+		own = append(own, api.Dict{ID: d.ID, Content: strings.Clone(d.Content)})
 	}
-	return ids
+	return own
 }

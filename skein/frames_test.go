@@ -34,14 +34,7 @@ func check(t *testing.T, c api.Config, s stream) {
 		if p, e := r.Place(); p != (api.Place{Frame: s.frame, Block: s.block}) || e != s.e {
 			t.Errorf("%s: %q in pieces of %d: at %+v, %d, want %d, %d, %d", s.what, s.text, size, p, e, s.frame, s.block, s.e)
 		}
-		got := ""
-		for {
-			x, e := r.Read(size)
-			if e != api.OK {
-				break
-			}
-			got += x
-		}
+		got := readAll(r, size)
 		end := s.e
 		if end == api.OK {
 			end = api.End
@@ -49,6 +42,18 @@ func check(t *testing.T, c api.Config, s stream) {
 		if x, e := r.Read(1); got != s.want || x != "" || e != end {
 			t.Errorf("%s: %q in pieces of %d: %q, then %q, %d, want %q, then %d", s.what, s.text, size, got, x, e, s.want, end)
 		}
+	}
+}
+
+// readAll reads what is ready, in pieces.
+func readAll(r *skein.Reader, size int) string {
+	var all strings.Builder
+	for {
+		piece, e := r.Read(size)
+		if e != api.OK {
+			return all.String()
+		}
+		all.WriteString(piece)
 	}
 }
 

@@ -16,11 +16,18 @@ type model struct {
 	pos     int
 	content string
 	at      api.Place
-	codes   map[string]int // of the frame: literals by their bits
+	frame   modelFrame
 }
 
-// unread is what the model leaves with at a block with sequences, of which it knows nothing.
-const unread api.Errno = -1
+// modelFrame is what the blocks of a frame lean on.
+type modelFrame struct {
+	start   int // where its content begins
+	window  int
+	dict    string
+	codes   map[string]int // literals by their bits
+	tables  [3][]api.State
+	offsets []int
+}
 
 // told is what a model has come to: its content, the error (Wait, if it has not stopped) and the place.
 type told struct {
@@ -88,27 +95,28 @@ func (m *model) readFrame() {
 	}
 	m.must(flags < 64, api.ErrFormat)
 	m.must(64<<(flags%8) <= m.config.Limit, api.ErrLimit)
-	m.must(id < 0 || m.knows(id), api.ErrDict)
-	start := len(m.content)
-	m.codes = nil
+	m.frame = modelFrame{start: len(m.content), window: 64 << (flags % 8), offsets: []int{1, 4, 8}}
+	if id >= 0 {
+		m.frame.dict = m.dictionary(id)
+	}
 	for last := false; !last; m.at.Block++ {
-		last = m.readBlock(start, size)
+		last = m.readBlock(size)
 	}
 	if flags/8%2 == 1 {
-		m.must(uint32(value(m.take(4))) == sums.Sum(m.content[start:]), api.ErrSum)
+		m.must(uint32(value(m.take(4))) == sums.Sum(m.content[m.frame.start:]), api.ErrSum)
 	}
 }
 
-func (m *model) knows(id int) bool {
+func (m *model) dictionary(id int) string {
 	for _, d := range m.config.Dicts {
 		if d.ID == id {
-			return true
+			return d.Content
 		}
 	}
-	return false
+	panic(api.ErrDict)
 }
 
-func (m *model) readBlock(start, size int) bool {
+func (m *model) readBlock(size int) bool {
 	h := value(m.take(2))
 	last, kind, n := h%2 == 1, h/2%4, h/8
 	m.must(kind != 3 && n <= 1024, api.ErrFormat)
@@ -121,7 +129,7 @@ func (m *model) readBlock(start, size int) bool {
 	default:
 		piece = m.unpack(m.take(n))
 	}
-	length := len(m.content) - start + len(piece)
+	length := len(m.content) - m.frame.start + len(piece)
 	m.must(size < 0 || length <= size && (!last || length == size), api.ErrFormat)
 	m.content += piece
 	return last

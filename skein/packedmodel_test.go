@@ -19,15 +19,21 @@ func (m *model) unpack(block string) string {
 	case 1:
 		literals = strings.Repeat(m.cut(&block, 1), n)
 	case 2:
-		m.codes = m.readCodes(&block)
+		m.frame.codes = m.readCodes(&block)
 		literals = m.decode(&block, n)
 	default:
-		m.must(m.codes != nil, api.ErrFormat)
+		m.must(m.frame.codes != nil, api.ErrFormat)
 		literals = m.decode(&block, n)
 	}
-	m.must(m.cut(&block, 1) == "\x00", unread)
-	m.must(block == "", api.ErrFormat)
-	return literals
+	number := value(m.cut(&block, 1))
+	if number == 0 {
+		m.must(block == "", api.ErrFormat)
+		return literals
+	}
+	m.readTables(&block)
+	content := m.follow(number, digits(block), literals)
+	m.must(len(content) <= 1024, api.ErrFormat)
+	return content
 }
 
 // cut takes bytes of a block, which must be there.
@@ -85,15 +91,21 @@ func codesOf(weights []int) map[string]int {
 	return nil
 }
 
-func (m *model) decode(block *string, n int) string {
+// digits are the bits of some bytes as noughts and ones.
+func digits(bytes string) string {
 	bits := ""
-	for _, b := range []byte(m.cut(block, value(m.cut(block, 2)))) {
+	for _, b := range []byte(bytes) {
 		bits += fmt.Sprintf("%08b", b)
 	}
+	return bits
+}
+
+func (m *model) decode(block *string, n int) string {
+	bits := digits(m.cut(block, value(m.cut(block, 2))))
 	literals := ""
 	for range n {
 		v, length := 0, 0
-		for known := false; !known; v, known = m.codes[bits[:length]] {
+		for known := false; !known; v, known = m.frame.codes[bits[:length]] {
 			length++
 			m.must(length <= len(bits), api.ErrFormat)
 		}

@@ -4,74 +4,12 @@ import (
 	"math"
 	"math/rand"
 	"strings"
+	"sync"
 	"testing"
 
 	"skein/api"
 	"skein/skein"
 )
-
-// drawBlocks draws blocks up to the last one, and gives their content too.
-func drawBlocks(r *rand.Rand) (blocks, content string) {
-	n := 1 + r.Intn(5)
-	var weights []int
-	for i := range n {
-		if r.Intn(2) == 0 {
-			bytes, piece := drawPacked(r, &weights)
-			blocks += packedBlock(i == n-1, bytes)
-			content += piece
-			continue
-		}
-		length := r.Intn(20)
-		if r.Intn(10) == 0 {
-			length = r.Intn(api.MaxBlock + 1)
-		}
-		letter := little(r.Intn(256), 1)
-		if r.Intn(2) == 0 {
-			blocks += runBlock(i == n-1, length, letter)
-			content += strings.Repeat(letter, length)
-			continue
-		}
-		piece := strings.Repeat(letter+"abc", length)[:length]
-		blocks += rawBlock(i == n-1, piece)
-		content += piece
-	}
-	return blocks, content
-}
-
-// drawFrame draws a frame that is right for the settings of drawConfig.
-func drawFrame(r *rand.Rand) string {
-	if r.Intn(5) == 0 {
-		n := r.Intn(30)
-		return "SKIP" + little(n, 3) + strings.Repeat("x", n)
-	}
-	blocks, content := drawBlocks(r)
-	flags, middle, end := r.Intn(3), "", ""
-	if r.Intn(3) == 0 {
-		flags += 32
-		middle += little(r.Intn(2), 1)
-	}
-	if r.Intn(2) == 0 {
-		flags += 16
-		middle += little(len(content), 3)
-	}
-	if r.Intn(2) == 0 {
-		flags += 8
-		end = sumOf(content)
-	}
-	return "SKN1" + little(flags, 1) + middle + blocks + end
-}
-
-func drawConfig() api.Config {
-	return api.Config{Limit: 256, Dicts: dicts(0, 1)}
-}
-
-func drawStream(r *rand.Rand) string {
-	text := ""
-	for range r.Intn(4) {
-		text += drawFrame(r)
-	}
-	return text
-}
 
 // spoil makes some streams wrong: a byte is another one, is left out, or the end is.
 func spoil(r *rand.Rand, text string) string {
@@ -133,11 +71,7 @@ func TestCallsInAnyOrder(t *testing.T) {
 	for range 4000 {
 		c := drawConfig()
 		text := spoil(r, drawStream(r))
-		end := modelOf(c, text, true)
-		if end.e == unread {
-			continue
-		}
-		seen[end.e]++
+		seen[modelOf(c, text, true).e]++
 		real, model := fresh(t, c), &modelReader{config: c}
 		rest := text
 		for range 60 {
@@ -183,9 +117,6 @@ func TestPiecesMakeNoDifference(t *testing.T) {
 		c := drawConfig()
 		text := spoil(r, drawStream(r))
 		want := modelOf(c, text, true)
-		if want.e == unread {
-			continue
-		}
 		for range 3 {
 			if got := inPieces(t, r, c, text); got != want {
 				t.Fatalf("P11: %q in pieces: %v, want %v", text, got, want)
@@ -246,18 +177,77 @@ func TestNothingIsTakenBack(t *testing.T) {
 	}
 }
 
+// Readers that are fed and read in turn, each its own stream, tell the same as alone.
+func TestReadersInTurn(t *testing.T) {
+	r := rand.New(rand.NewSource(14))
+	for range 150 {
+		c := drawConfig()
+		var readers [4]*skein.Reader
+		var rest, got [4]string
+		var want [4]told
+		for i := range readers {
+			readers[i] = fresh(t, c)
+			rest[i] = spoil(r, drawStream(r)+drawFrame(r))
+			want[i] = modelOf(c, rest[i], true)
+		}
+		for strings.Join(rest[:], "") != "" {
+			i := r.Intn(len(readers))
+			n := min(len(rest[i]), 1+r.Intn(12))
+			feed(t, readers[i], rest[i][:n])
+			rest[i] = rest[i][n:]
+			piece, _ := readers[i].Read(r.Intn(30))
+			got[i] += piece
+		}
+		for i, reader := range readers {
+			closeIt(t, reader)
+			got[i] += readAll(reader, 100)
+			_, e := reader.Read(1)
+			p, _ := reader.Place()
+			if is := (told{got[i], e, p}); is != want[i] {
+				t.Fatalf("P2: a reader beside others: %v, want %v", is, want[i])
+			}
+		}
+	}
+}
+
+// Readers that run at the same time, of one stream, from which each builds tables.
+func TestReadersAtTheSameTime(t *testing.T) {
+	r := rand.New(rand.NewSource(15))
+	text := ""
+	for range 60 {
+		text += drawFrame(r)
+	}
+	c := drawConfig()
+	want := modelOf(c, text, true)
+	var group sync.WaitGroup
+	var got [8]string
+	var ends [8]api.Errno
+	for i := range got {
+		group.Add(1)
+		go func() {
+			defer group.Done()
+			got[i], ends[i] = skein.Whole(c, text)
+		}()
+	}
+	group.Wait()
+	for i := range got {
+		if got[i] != want.content || ends[i] != api.OK || want.e != api.End {
+			t.Fatalf("P2: a reader at the same time as others: %q, %d, want %q", got[i], ends[i], want.content)
+		}
+	}
+}
+
 // FuzzReader holds any bytes, in two pieces, against the model.
 func FuzzReader(f *testing.F) {
 	f.Add("SKN1\x18\x03\x00\x00\x19\x00abc\xff\x53\xd1\x32SKIP\x01\x00\x00x", 7)
 	f.Add("SKN1\x20\x01\x12\x00xSKN1", 3)
 	f.Add("SKN1\x00"+packedBlock(false, freshLiterals([]int{2, 1}, "\x00\x01\x02")+"\x00")+packedBlock(true, lastLiterals([]int{2, 1}, "\x02\x00")+"\x00"), 9)
 	f.Add("SKN1\x00"+packedBlock(false, plainLiterals("abc")+"\x00")+packedBlock(true, repeatedLiterals(9, "x")+"\x00"), 11)
+	f.Add(packedFrame("\x00", plainLiterals("abcd")+allAgreed().with(sequence{1, 1, 3}, sequence{0, 2, 4}), plainLiterals("x")+allAgreed().again().with(sequence{1, 8, 9})), 20)
+	f.Add(packedFrame("\x20\x01", plainLiterals("abcd")+tables{counted(5, 30, 2), single(4), counted(6, 60, -1, 3)}.with(sequence{1, 20, 3}, sequence{0, 31, 5})), 30)
 	f.Fuzz(func(t *testing.T, text string, cut int) {
 		c := drawConfig()
 		want := modelOf(c, text, true)
-		if want.e == unread {
-			return
-		}
 		reader := fresh(t, c)
 		n := max(0, min(cut, len(text)))
 		feed(t, reader, text[:n])

@@ -4,7 +4,6 @@ import (
 	"math"
 	"strings"
 	"testing"
-	"unsafe"
 
 	"skein/api"
 	"skein/skein"
@@ -203,16 +202,20 @@ func TestContentIsReadyWhenTheBlockIs(t *testing.T) {
 }
 
 func TestWhatWasFedIsNotKept(t *testing.T) {
-	stream := "SKN1\x08" + rawBlock(false, "some text of more than a stripe") + rawBlock(true, "end") + sumOf("some text of more than a stripeend")
+	chosen := tables{counted(5, 30, 2), agreed(1), counted(6, 60, -1, 3)}
+	stream := "SKN1\x08" + rawBlock(false, "some text of more than a stripe") + packedBlock(false, plainLiterals("xyz")+chosen.with(sequence{1, 34, 5})) +
+		packedBlock(false, plainLiterals("")+chosen.again().with(sequence{0, 10, 3}, sequence{0, 1, 4})) + rawBlock(true, "end")
+	want := modelOf(widest, stream, true).content
+	stream += sumOf(want)
 	for cut := range len(stream) {
 		r := fresh(t, widest)
 		for _, piece := range []string{stream[:cut], stream[cut:]} {
 			room := []byte(piece)
-			feed(t, r, unsafe.String(unsafe.SliceData(room), len(room)))
+			feed(t, r, lent(room))
 			clear(room)
 		}
 		closeIt(t, r)
-		wantRead(t, r, 99, "some text of more than a stripeend", api.OK)
+		wantRead(t, r, 99, want, api.OK)
 		wantRead(t, r, 99, "", api.End)
 	}
 }
